@@ -1,0 +1,51 @@
+"""Things of any kind, and small makers, that the tests share."""
+
+import itertools
+import random
+
+
+class LikeAll:
+    """Equal to whatever it is compared with, so that a mere == is caught."""
+
+    def __eq__(self, other):
+        return True
+
+    def __hash__(self):
+        return 1
+
+
+def deep(kind, inmost, depth=20):
+    thing = inmost
+    for _ in range(depth):
+        thing = kind(thing)
+    return thing
+
+
+def odd_things():
+    """Things of many kinds: no name, half-row, row, book, parting, place, number from 0 on, knot."""
+    return [
+        None, True, False, -1, -2, 10 ** 30, -10 ** 30, 10 ** 5000, "", " ", "\n", "0", "1", "N", "Y", "n y",
+        "nnnnnnnnn", "y\n", "\ny", " y", "y ", "n-y", b"", b"n", b"y", b"ab", [], (), {}, set(), frozenset(),
+        ["n"], ("n",), ["n", "y"], {"n": "y"}, {"n"}, frozenset(["n"]), [None], (None,), (None, None),
+        [3, ()], (3,), (3, (), ()), (True, ()), object(), LikeAll(), (LikeAll(), LikeAll()), [LikeAll()],
+        len, odd_things, LikeAll, ValueError, ValueError("n"), range(3),
+        deep(lambda inner: [inner], "n"), deep(lambda inner: (inner,), "n"), deep(lambda inner: (inner, inner), "n", 8),
+        deep(lambda inner: {"n": inner}, "n"), deep(lambda inner: (3, inner), ()), deep(lambda inner: [inner, 1], None),
+    ]
+
+
+def all_texts(signs, length):
+    return ["".join(text) for text in itertools.product(sorted(signs), repeat=length)]
+
+
+def chances(seed):
+    """Picks that are the same in each run."""
+    return random.Random(seed)
+
+
+def some_text(chance, signs, length):
+    return "".join(chance.choice(signs) for _ in range(length))
+
+
+def in_other_orders(things, most=24):
+    return itertools.islice(itertools.permutations(things), most)
