@@ -1,7 +1,7 @@
-"""Half-rows beside a row: the row that two part, and whether one fits a row."""
+"""Half-rows beside a row: the row that two part, whether two are a parting, and whether one fits."""
 
 from hidhalves.partings import turned_at_both
-from hidhalves.rows import is_half, is_row
+from hidhalves.rows import HALF_SIGNS, are_two_texts, is_half, is_row
 
 PAIRS = ("nn", "ny", "yn", "yy")
 
@@ -14,6 +14,16 @@ def pair_at(half, first, second):
 def row_by(one, other):
     """The row that these two half-rows of one length part."""
     return "".join([sign if sign == beside else "b" for sign, beside in zip(one, other)])
+
+
+def is_parting(row, thing):
+    """Whether thing, of any kind, is a parting of the row."""
+    if not are_two_texts(thing):
+        return False
+    one, other = thing
+    if len(one) != len(row) or len(other) != len(row) or one > other:
+        return False
+    return row_by(one, other) == row and all(sign in HALF_SIGNS for sign in one + other)
 
 
 def lets(mark, sign):

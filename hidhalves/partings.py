@@ -1,7 +1,7 @@
 """The partings of a row: listed, counted, and numbered in order."""
 
 from hidhalves.errors import NoNumber, NoParting
-from hidhalves.rows import HALF_SIGNS, is_two, is_whole
+from hidhalves.rows import HALF_SIGNS, are_two_texts, is_whole
 
 
 def turned_at_both(row, half):
@@ -52,7 +52,7 @@ def partings_of(row):
 
 def number_of(row, parting):
     """The number of this parting of the row."""
-    if is_two(parting) and isinstance(parting[0], str) and isinstance(parting[1], str):
+    if are_two_texts(parting):
         for number, standing in enumerate(partings_of(row)):
             if parting == standing:
                 return number

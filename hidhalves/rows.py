@@ -43,6 +43,25 @@ def is_two(thing):
     return isinstance(thing, tuple) and len(thing) == 2
 
 
+def are_two_texts(thing):
+    """Whether thing is a tuple of two texts."""
+    return is_two(thing) and isinstance(thing[0], str) and isinstance(thing[1], str)
+
+
+def is_same(thing, standing):
+    """Whether thing, of any kind, is just this tuple, text or whole number, and so is all within.
+
+    A mere == would take True for 1, and whatever calls itself equal.
+    """
+    if isinstance(standing, tuple):
+        if not isinstance(thing, tuple) or len(thing) != len(standing):
+            return False
+        return all(is_same(part, beside) for part, beside in zip(thing, standing))
+    if isinstance(standing, str):
+        return isinstance(thing, str) and thing == standing
+    return is_whole(thing) and thing == standing
+
+
 def is_named_row(thing, places):
     """Whether thing is a tuple (NAME, ROW), the row of so many places."""
     return is_two(thing) and is_name(thing[0]) and is_row_of(thing[1], places)

@@ -1,11 +1,27 @@
 import unittest
 
-from hidhalves.halves import fits_row, other_half, row_by
+from hidhalves.halves import fits_row, is_parting, other_half, row_by
 from hidhalves.partings import partings_of
 from tests.things import LikeAll, all_texts, odd_things
 
 ROWS = [row for length in range(1, 5) for row in all_texts("bny", length)]
 LONG = ["nnnnnnnn", "yynnyyny", "nbynynyy", "nbbybnyb", "bbbbbbbb"]
+
+
+class IsParting(unittest.TestCase):
+    def test_all_pairs_of_half_rows(self):
+        for row in ROWS:
+            if len(row) < 4:
+                for one in all_texts("ny", len(row)):
+                    for other in all_texts("ny", len(row)):
+                        self.assertIs(is_parting(row, (one, other)), (one, other) in partings_of(row))
+
+    def test_things_of_any_kind(self):
+        for thing in odd_things() + [LikeAll(), ["nnn", "nyy"], ("nnn",), ("nnn", "nyy", "nyy"), ("nn", "ny"), ("nnnn", "nyyn"),
+                                     ("nnx", "nyy"), ("nnb", "nyy"), ("nna", "nyo"), ("nyy", "nnn")]:
+            self.assertIs(is_parting("nbb", thing), False)
+            self.assertIs(is_parting("nbb", ("nnn", thing)), False)
+            self.assertIs(is_parting("nbb", (thing, "nyy")), False)
 
 
 class TheRowOfTwo(unittest.TestCase):

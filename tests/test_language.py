@@ -1,6 +1,7 @@
 """Checks, as far as a reader of the code can, that the package keeps to the small subset of Python."""
 
 import ast
+import builtins
 import os
 import re
 import unittest
@@ -16,6 +17,11 @@ items join keys ljust lower lstrip partition pop remove replace reverse rfind rj
 splitlines startswith strip update upper values zfill bit_length add discard sort""".split())
 BARRED_WORDS = set("""type typing typing_extensions enum Enum IntEnum StrEnum Flag IntFlag Generic Protocol ABC ABCMeta
 namedtuple NamedTuple TypedDict TYPE_CHECKING abstractmethod register mro elements open input""".split())
+# Where what is made anew is taken at once: by a call of one of these, or by a loop.
+TAKE_SETS = {"sorted", "len"}
+TAKE_GENERATORS = {"list", "tuple", "dict", "sorted", "sum", "min", "max", "any", "all", "join"}
+TAKE_PASSING = TAKE_GENERATORS | {"enumerate", "zip", "bytes"}
+PASSING = {"zip", "enumerate", "reversed", "range", "items", "keys", "values"}
 BARRED_NODES = (ast.Global, ast.AsyncFunctionDef, ast.AsyncFor, ast.AsyncWith, ast.Await, ast.Import, ast.Div)
 
 
@@ -62,6 +68,21 @@ def bound_anywhere(tree):
     return names
 
 
+def called(node):
+    """The name of the function or method that is called, None of what is no call of one."""
+    if not isinstance(node, ast.Call):
+        return None
+    return node.func.id if isinstance(node.func, ast.Name) else getattr(node.func, "attr", None)
+
+
+def nodes_with_parents(tree):
+    return [(child, node) for node in ast.walk(tree) for child in ast.iter_child_nodes(node)]
+
+
+def is_looped_over(node, parent):
+    return isinstance(parent, (ast.For, ast.comprehension)) and parent.iter is node
+
+
 class Language(unittest.TestCase):
     def test_files(self):
         self.assertIn("__init__.py", package_files())
@@ -99,6 +120,34 @@ class Language(unittest.TestCase):
                 if isinstance(node, ast.Compare) and isinstance(node.ops[0], (ast.Is, ast.IsNot)):
                     self.assertIn(node.comparators[0].value, (None, True, False), name)
 
+    def test_sets_are_not_kept(self):
+        """Narrower than the rule, which lets a set be kept in a local name."""
+        for name, tree in trees().items():
+            for node, parent in nodes_with_parents(tree):
+                if isinstance(node, (ast.Set, ast.SetComp)) or called(node) == "set":
+                    compared = isinstance(parent, ast.Compare) and node in parent.comparators
+                    self.assertTrue(compared or called(parent) in TAKE_SETS, f"{name} {node.lineno}")
+                if isinstance(node, ast.Set):
+                    self.assertFalse(any(isinstance(part, ast.Starred) for part in node.elts), f"{name} {node.lineno}")
+
+    def test_what_passes_is_taken_at_once(self):
+        for name, tree in trees().items():
+            for node, parent in nodes_with_parents(tree):
+                if isinstance(node, ast.GeneratorExp):
+                    self.assertIn(called(parent), TAKE_GENERATORS, f"{name} {node.lineno}")
+                if called(node) in PASSING:
+                    self.assertTrue(is_looped_over(node, parent) or called(parent) in TAKE_PASSING, f"{name} {node.lineno}")
+
+    def test_no_name_is_a_method_and_an_attribute(self):
+        methods, attributes = set(), set()
+        for tree in trees().values():
+            for node in ast.walk(tree):
+                if isinstance(node, ast.ClassDef):
+                    methods |= {part.name for part in node.body if isinstance(part, ast.FunctionDef)}
+                elif isinstance(node, ast.Attribute) and isinstance(node.ctx, ast.Store):
+                    attributes.add(node.attr)
+        self.assertEqual(methods & attributes, set())
+
     def test_module_level(self):
         for name, tree in trees().items():
             for node in tree.body:
@@ -113,7 +162,7 @@ class Language(unittest.TestCase):
             own = bound_anywhere(tree)
             for word in own:
                 self.assertRegex(word, r"^[A-Za-z][A-Za-z0-9_]*$|^__init__$", name)
-                self.assertNotIn(word, BUILTINS, name)
+                self.assertNotIn(word, dir(builtins) if word != "__init__" else BUILTINS, name)
             for node in ast.walk(tree):
                 if isinstance(node, ast.Name) and isinstance(node.ctx, ast.Load):
                     self.assertIn(node.id, own | BUILTINS, f"{name} {node.lineno}")

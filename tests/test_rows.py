@@ -3,8 +3,8 @@ import string
 import unittest
 
 from hidhalves.errors import NoName, NoRoom, NoRow
-from hidhalves.rows import book_with, book_without, is_book, is_half, is_name, is_row, is_whole, row_in
-from tests.things import all_texts, odd_things
+from hidhalves.rows import book_with, book_without, is_book, is_half, is_name, is_row, is_same, is_whole, row_in
+from tests.things import LikeAll, all_texts, bent, listed, odd_things
 
 NAMES = ["a", "b", "c", "d", "e", "f", "g", "h", "i", "j", "k"]
 THREE = (3, (("ann", "nby"), ("bob", "bbb"), ("cy", "nby")))
@@ -20,6 +20,15 @@ class Kinds(unittest.TestCase):
             self.assertIs(is_whole(thing), True)
         for thing in (True, False, None, "1", b"1", [1], (1,)):
             self.assertIs(is_whole(thing), False)
+
+    def test_the_same_all_through(self):
+        standing = ("row", 1, ("a", (0, "n")), ())
+        self.assertIs(is_same(("row", 1, ("a", (0, "n")), ()), standing), True)
+        for thing in listed(standing) + odd_things() + [LikeAll(), standing[:3], standing + ((),), (standing,)]:
+            self.assertIs(is_same(thing, standing), False)
+        for thing in odd_things() + [True, 2, "1", LikeAll(), ["a"]]:
+            for other in bent(standing, thing):
+                self.assertIs(is_same(other, standing), other == standing and repr(other) == repr(standing))
 
     def test_names(self):
         for thing in list(string.ascii_lowercase) + ["ab", "places", "zzzzzzzz", "abcdefgh", "n", "b", "y"]:

@@ -3,21 +3,9 @@ import itertools
 import unittest
 
 from hidhalves.errors import NoPlace
-from hidhalves.partings import partings_of
 from hidhalves.seen import seen_at
 from tests.things import all_texts, chances, odd_things, some_text
-
-PAIRS = ("nn", "ny", "yn", "yy")
-
-
-def seen_by_trial(book, i, j):
-    """Straight from the words of point 9, by going through all partings."""
-    told = []
-    for pair in PAIRS:
-        names = [name for name, row in book[1]
-                 if all(pair in (one[i] + one[j], other[i] + other[j]) for one, other in partings_of(row))]
-        told += [(pair, name) for name in names[:1]]
-    return tuple(told)
+from tests.trials import PAIRS, seen_by_trial
 
 
 class Seen(unittest.TestCase):

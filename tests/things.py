@@ -49,3 +49,35 @@ def some_text(chance, signs, length):
 
 def in_other_orders(things, most=24):
     return itertools.islice(itertools.permutations(things), most)
+
+
+def some_book(chance, most_places, most_rows, signs="nby"):
+    """A book of rows of these signs; one that stands there twice is taken more often."""
+    places = chance.randint(1, most_places)
+    names = chance.sample(["a", "b", "cy", "dee", "e", "f", "gus", "h", "i", "jo"], chance.randint(0, most_rows))
+    return (places, tuple((name, some_text(chance, signs, places)) for name in names))
+
+
+def some_books(seed, many, most_places, most_rows):
+    """Books of several sorts: with few b and with many, with both marks and with one."""
+    chance = chances(seed)
+    return [some_book(chance, most_places, most_rows, chance.choice(["nby", "nbbby", "nbb", "bbby", "nnb", "nb"]))
+            for _ in range(many)]
+
+
+def bent(thing, worth):
+    """All things that are as this tuple, but with another worth in one of its parts, however deep within."""
+    told = []
+    for at, part in enumerate(thing):
+        inner = bent(part, worth) if isinstance(part, tuple) else []
+        told += [thing[:at] + (other,) + thing[at + 1:] for other in inner + [worth]]
+    return told
+
+
+def listed(thing):
+    """All things that are as this tuple, but with a list for one tuple, itself or one within."""
+    told = [list(thing)]
+    for at, part in enumerate(thing):
+        if isinstance(part, tuple):
+            told += [thing[:at] + (other,) + thing[at + 1:] for other in listed(part)]
+    return told

@@ -1,0 +1,139 @@
+"""What the document's words say, found by plain trial, without the package's own ways."""
+
+import itertools
+
+PAIRS = ("nn", "ny", "yn", "yy")
+
+
+def partings_by_trial(row):
+    """Straight from the words of point 6."""
+    told = []
+    for signs in itertools.product("ny", repeat=len(row)):
+        one = "".join(signs)
+        other = "".join({"n": "y", "y": "n"}[sign] if mark == "b" else sign for mark, sign in zip(row, one))
+        if one <= other and all(mark == "b" or mark == sign for mark, sign in zip(row, one)):
+            told.append((one, other))
+    return told
+
+
+def seen_by_trial(book, i, j):
+    """Straight from the words of point 9, by going through all partings."""
+    told = []
+    for pair in PAIRS:
+        names = [name for name, row in book[1]
+                 if all(pair in (one[i] + one[j], other[i] + other[j]) for one, other in partings_by_trial(row))]
+        told += [(pair, name) for name in names[:1]]
+    return tuple(told)
+
+
+def links_by_trial(book):
+    return [(i, j) for i, j in itertools.combinations(range(book[0]), 2)
+            if any(row[i] == row[j] == "b" for name, row in book[1])]
+
+
+def rules_by_trial(book):
+    """Straight from the words of point 10: each rule, rising, with what it says."""
+    rules = {}
+    for i, j in links_by_trial(book):
+        seen = dict(seen_by_trial(book, i, j))
+        if "nn" in seen and "yy" in seen:
+            rules[("seen", i, j, 0)] = (((i, j),), 0)
+        if "ny" in seen and "yn" in seen:
+            rules[("seen", i, j, 1)] = (((i, j),), 1)
+    for name, row in book[1]:
+        for i, j, k in itertools.combinations(range(book[0]), 3):
+            if row[i] == row[j] == row[k] == "b":
+                rules[("row", name, i, j, k)] = (((i, j), (i, k), (j, k)), 0)
+    return {rule: rules[rule] for rule in sorted(rules)}
+
+
+def cross(halves):
+    """Whether half-rows of one length cross."""
+    if not halves:
+        return False
+    return any({half[i] + half[j] for half in halves} == set(PAIRS)
+               for i, j in itertools.combinations(range(len(halves[0])), 2))
+
+
+def many_choices(book):
+    many = 1
+    for name, row in book[1]:
+        many *= 2 ** max(0, row.count("b") - 1)
+    return many
+
+
+def choices_by_trial(book):
+    """All choices of partings, rising."""
+    return list(itertools.product(*[partings_by_trial(row) for name, row in book[1]]))
+
+
+def halves_by_trial(choice):
+    return tuple(sorted({half for parting in choice for half in parting}))
+
+
+def fits_by_trial(book):
+    """All fits, rising."""
+    return [choice for choice in choices_by_trial(book) if not cross(halves_by_trial(choice))]
+
+
+def is_odd_sum(rules, chosen):
+    """Whether each link stands in the chosen rules an even number of times, the sum of bits being odd."""
+    links = [link for rule in chosen for link in rules[rule][0]]
+    return sum(rules[rule][1] for rule in chosen) % 2 == 1 and all(links.count(link) % 2 == 0 for link in links)
+
+
+def wrong_with_bar(book, bar):
+    """Why bar is no bar of the book as point 11 tells it, None where it is one."""
+    if type(bar) is not tuple or not bar or bar[0] not in ("four", "odd"):
+        return "no bar of either sort"
+    if bar[0] == "four":
+        return wrong_with_four(book, bar)
+    return wrong_with_odd(book, bar)
+
+
+def wrong_with_four(book, bar):
+    word, i, j, names = bar
+    if type(i) is not int or type(j) is not int or not 0 <= i < j < book[0]:
+        return "no places"
+    if type(names) is not tuple or len(names) != 4:
+        return "no four names"
+    rows = dict(book[1])
+    for pair, name in zip(PAIRS, names):
+        if pair not in dict(seen_by_trial((book[0], ((name, rows[name]),)), i, j)):
+            return "a row doesn't show its pair surely"
+    return None
+
+
+def wrong_with_odd(book, bar):
+    word, chosen = bar
+    rules = rules_by_trial(book)
+    if type(chosen) is not tuple or list(chosen) != sorted(set(chosen)):
+        return "not rising"
+    if not all(repr(rule) in map(repr, rules) for rule in chosen):
+        return "no rules of the book"
+    if not is_odd_sum(rules, chosen):
+        return "no odd sum"
+    if has_odd_part(rules, chosen):
+        return "a part would do"
+    return None
+
+
+def has_odd_part(rules, chosen):
+    """Whether a lesser part of the chosen rules has an odd sum; all parts are gone through where they are few."""
+    if len(chosen) > 14:
+        return any(solves_odd(rules, [rule for rule in chosen if rule != left]) for left in chosen)
+    return any(is_odd_sum(rules, part) for many in range(len(chosen)) for part in itertools.combinations(chosen, many))
+
+
+def solves_odd(rules, chosen):
+    """Whether some of the chosen rules have an odd sum, found by putting links out one by one."""
+    left = [(frozenset(rules[rule][0]), rules[rule][1]) for rule in chosen]
+    while left:
+        links, bit = left.pop()
+        if not links:
+            if bit:
+                return True
+            continue
+        link = min(links)
+        left = [(other ^ links, more ^ bit) if link in other else (other, more) for other, more in left]
+    return False
