@@ -81,3 +81,20 @@ def listed(thing):
         if isinstance(part, tuple):
             told += [thing[:at] + (other,) + thing[at + 1:] for other in listed(part)]
     return told
+
+
+def some_half(chance, row):
+    """A half-row that fits the row."""
+    return "".join(chance.choice("ny") if mark == "b" else mark for mark in row)
+
+
+def some_family(chance, most_places, strange, signs="nby", least=1):
+    """A family whose young ones have at each place signs of the old rows, but for a few strange marks."""
+    places = chance.randint(least, most_places)
+    one, other = some_text(chance, signs, places), some_text(chance, signs, places)
+    young = []
+    for _ in range(chance.randint(1, 3)):
+        halves = some_half(chance, one), some_half(chance, other)
+        marks = [x if x == y else "b" for x, y in zip(*halves)]
+        young.append("".join(chance.choice("nby") if chance.random() < strange else mark for mark in marks))
+    return (one, other, tuple(young))

@@ -16,6 +16,11 @@ def partings_by_trial(row):
     return told
 
 
+def row_by_trial(one, other):
+    """The row that two half-rows part."""
+    return "".join(a if a == b else "b" for a, b in zip(one, other))
+
+
 def seen_by_trial(book, i, j):
     """Straight from the words of point 9, by going through all partings."""
     told = []
