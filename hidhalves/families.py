@@ -3,7 +3,7 @@
 from hidhalves.errors import NoRoom
 from hidhalves.halves import row_by
 from hidhalves.partings import many_partings, partings_of
-from hidhalves.rows import is_row, is_row_of
+from hidhalves.rows import is_row, is_row_of, is_tuple_of
 
 MOST_YOUNG = 3
 MOST_PAIRS = 256
@@ -11,7 +11,7 @@ MOST_PAIRS = 256
 
 def is_family(thing):
     """Whether thing, of any kind, is a family (ONE, OTHER, YOUNG)."""
-    if not isinstance(thing, tuple) or len(thing) != 3:
+    if not is_tuple_of(thing, 3):
         return False
     one, other, young = thing
     if not is_row(one) or not is_row_of(other, len(one)):

@@ -4,6 +4,7 @@ from hidhalves.crossings import crossing_of
 from hidhalves.evenodd import added_up, links_by_weight, odd_links
 from hidhalves.halves import PAIRS, is_parting
 from hidhalves.partings import turned_at_both
+from hidhalves.rows import is_tuple_of
 from hidhalves.rules import both_places
 from hidhalves.seen import seen_at
 
@@ -58,7 +59,7 @@ def fit_told(book):
 def is_choice(book, thing):
     """Whether thing, of any kind, is a tuple of partings, one of each row, in the book's order."""
     rows = book[1]
-    if not isinstance(thing, tuple) or len(thing) != len(rows):
+    if not is_tuple_of(thing, len(rows)):
         return False
     return all(is_parting(row, part) for (name, row), part in zip(rows, thing))
 

@@ -38,14 +38,24 @@ def is_row_of(thing, places):
     return is_row(thing) and len(thing) == places
 
 
-def is_two(thing):
-    """Whether thing is a tuple of two things."""
-    return isinstance(thing, tuple) and len(thing) == 2
+def is_tuple_of(thing, many):
+    """Whether thing is a tuple of so many things."""
+    return isinstance(thing, tuple) and len(thing) == many
 
 
 def are_two_texts(thing):
     """Whether thing is a tuple of two texts."""
-    return is_two(thing) and isinstance(thing[0], str) and isinstance(thing[1], str)
+    return is_tuple_of(thing, 2) and isinstance(thing[0], str) and isinstance(thing[1], str)
+
+
+def are_places_of(thing, places):
+    """Whether thing is a tuple of places, each from 0 to below places, in any order."""
+    return isinstance(thing, tuple) and all(is_whole(place) and 0 <= place < places for place in thing)
+
+
+def rises(things):
+    """Whether each of these things, which can be compared, is less than the next one."""
+    return all(thing < after for thing, after in zip(things, things[1:]))
 
 
 def is_same(thing, standing):
@@ -64,11 +74,11 @@ def is_same(thing, standing):
 
 def is_named_row(thing, places):
     """Whether thing is a tuple (NAME, ROW), the row of so many places."""
-    return is_two(thing) and is_name(thing[0]) and is_row_of(thing[1], places)
+    return is_tuple_of(thing, 2) and is_name(thing[0]) and is_row_of(thing[1], places)
 
 
 def is_book(thing):
-    if not is_two(thing):
+    if not is_tuple_of(thing, 2):
         return False
     places, rows = thing
     if not is_whole(places) or not 1 <= places <= MOST_SIGNS:

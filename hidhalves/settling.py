@@ -2,7 +2,7 @@
 
 from hidhalves.errors import NoHalf, NoOrder, NoRoom
 from hidhalves.halves import other_half
-from hidhalves.rows import is_half, is_name
+from hidhalves.rows import is_half, is_name, rises
 
 MOST_ORDERED = 5
 
@@ -11,7 +11,7 @@ def are_known(book, thing):
     """Whether thing, of any kind, is a rising tuple of unlike half-rows of the book's places."""
     if not isinstance(thing, tuple) or not all(is_half(half) and len(half) == book[0] for half in thing):
         return False
-    return all(half < after for half, after in zip(thing, thing[1:]))
+    return rises(thing)
 
 
 def names_in(book):

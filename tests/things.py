@@ -98,3 +98,29 @@ def some_family(chance, most_places, strange, signs="nby", least=1):
         marks = [x if x == y else "b" for x, y in zip(*halves)]
         young.append("".join(chance.choice("nby") if chance.random() < strange else mark for mark in marks))
     return (one, other, tuple(young))
+
+
+def some_likeness(chance, places):
+    """A likeness of so many places."""
+    order = list(range(places))
+    chance.shuffle(order)
+    return (tuple(order), tuple(place for place in range(places) if chance.random() < 0.5))
+
+
+def no_likenesses(places):
+    """Things that are no likeness of so many places, each wrong in one way."""
+    order = tuple(range(places))
+    told = [
+        (order + order[-1:], ()), (order[:-1], ()), (order[1:], ()), (order + (places,), ()), ((places,) + order[1:], ()),
+        (order[:-1] + (-1,), ()), (order[:-1] + (10 ** 30,), ()), (order[:-1] + (None,), ()), (order[:-1] + (str(places - 1),), ()),
+        (order[:-1] + (LikeAll(),), ()), (order[:-1] + ((places - 1,),), ()),
+        (False,) * 2, ((False,) + order[1:], ()), (list(order), ()), (order, []), [order, ()], (order, [0]), (list(order), [0]),
+        (order,), (order, (), ()), (), order, ((), order), (order, None), (None, ()), (order, 0), (order, "0"), ("0", ()),
+        (order, (0, 0)), (order, (places,)), (order, (-1,)), (order, (False,)), (order, ("0",)), (order, (None,)),
+        (order, (LikeAll(),)), (order, ((0,),)), (order, LikeAll()), (LikeAll(), ()), (order, {0: True}), (order, {0}),
+        (order, range(1)), (range(places), ()), (order, b"\x00"), (bytes(order), ()),
+    ]
+    if places > 1:
+        told += [(order[:-1] + order[:1], ()), ((0, True) + order[2:], ()), (order, (1, 0)), (order, (0, 1, 0)), (order, (0, True)),
+                 (order, (0, 1, 1))]
+    return told

@@ -142,3 +142,30 @@ def solves_odd(rules, chosen):
         link = min(links)
         left = [(other ^ links, more ^ bit) if link in other else (other, more) for other, more in left]
     return False
+
+
+def likenesses_of(places):
+    """All likenesses of so many places, rising."""
+    turned = sorted(some for many in range(places + 1) for some in itertools.combinations(range(places), many))
+    return [(order, some) for order in itertools.permutations(range(places)) for some in turned]
+
+
+def carried_by_trial(signs, likeness):
+    """Straight from the words of point 20, sign by sign."""
+    order, turned = likeness
+    told = ""
+    for place in range(len(signs)):
+        sign = signs[order[place]]
+        if place in turned:
+            sign = {"n": "y", "y": "n", "b": "b"}[sign]
+        told += sign
+    return told
+
+
+def carried_rows_by_trial(book, likeness):
+    return tuple((name, carried_by_trial(row, likeness)) for name, row in book[1])
+
+
+def are_carried_to(book, likeness, other):
+    """Whether the likeness carries the book to rows that the other one has, each as often."""
+    return sorted(row for name, row in carried_rows_by_trial(book, likeness)) == sorted(row for name, row in other[1])
