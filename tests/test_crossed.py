@@ -5,48 +5,7 @@ import unittest
 from hidhalves.crossed import crossed
 from hidhalves.families import is_family, whole_tellings
 from tests.things import all_texts, chances, some_family
-from tests.trials import row_by_trial
-
-
-def ordered_partings(row):
-    """All tuples of two half-rows that part the row, in either order."""
-    halves = all_texts("ny", len(row))
-    return [(one, other) for one in halves for other in halves if row_by_trial(one, other) == row]
-
-
-def crossings_in(text):
-    return sum(sign != ahead for ahead, sign in zip(text, text[1:]))
-
-
-def young_by(a, b, u, v):
-    """The row that these ways make of A and B."""
-    return "".join(row_by_trial(a[int(x)][place], b[int(y)][place]) for place, (x, y) in enumerate(zip(u, v)))
-
-
-def fewest_by_trial(family):
-    """The fewest crossings, by going through all A, B and ways; None where there is no telling."""
-    one, other, young = family
-    texts = all_texts("01", len(one))
-    found = []
-    for a, b in itertools.product(ordered_partings(one), ordered_partings(other)):
-        made = {}
-        for u, v in itertools.product(texts, repeat=2):
-            row, many = young_by(a, b, u, v), crossings_in(u) + crossings_in(v)
-            made[row] = min(many, made.get(row, many))
-        if all(row in made for row in young):
-            found.append(sum(made[row] for row in young))
-    return min(found, default=None)
-
-
-def never_by_trial(family):
-    """The first place at which no signs give all young ones theirs, None where there is none."""
-    one, other, young = family
-    signs = {"n": "n", "y": "y", "b": "ny"}
-    for place in range(len(one)):
-        let = {row_by_trial(x, y) for x in signs[one[place]] for y in signs[other[place]]}
-        if not {row[place] for row in young} <= let:
-            return place
-    return None
+from tests.trials import crossings_in, fewest_by_trial, never_by_trial, row_by_trial, young_by
 
 
 class Crossed(unittest.TestCase):

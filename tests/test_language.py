@@ -157,6 +157,21 @@ class Language(unittest.TestCase):
                     isinstance(part, (ast.Call, ast.ListComp, ast.Lambda)) for part in ast.walk(node))
                 self.assertTrue(plain or docstring or value, f"{name} {node.lineno}")
 
+    def test_lists_and_dicts_of_a_module_are_only_read(self):
+        for name, tree in trees().items():
+            tables = {node.targets[0].id for node in tree.body if isinstance(node, ast.Assign) and isinstance(node.value, (ast.Dict, ast.List))}
+            for node, parent in nodes_with_parents(tree):
+                if isinstance(node, ast.Name) and node.id in tables and isinstance(node.ctx, ast.Load):
+                    indexed = isinstance(parent, ast.Subscript) and parent.value is node and isinstance(parent.ctx, ast.Load)
+                    tested = isinstance(parent, ast.Compare) and node in parent.comparators and isinstance(parent.ops[0], (ast.In, ast.NotIn))
+                    self.assertTrue(indexed or tested or is_looped_over(node, parent), f"{name} {node.lineno}")
+
+    def test_a_function_of_a_table_has_a_name_when_it_is_called(self):
+        for name, tree in trees().items():
+            for node in ast.walk(tree):
+                if isinstance(node, ast.Call):
+                    self.assertIsInstance(node.func, (ast.Name, ast.Attribute), f"{name} {node.lineno}")
+
     def test_names(self):
         for name, tree in trees().items():
             own = bound_anywhere(tree)

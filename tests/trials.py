@@ -2,6 +2,8 @@
 
 import itertools
 
+from tests.things import all_texts
+
 PAIRS = ("nn", "ny", "yn", "yy")
 
 
@@ -169,3 +171,65 @@ def carried_rows_by_trial(book, likeness):
 def are_carried_to(book, likeness, other):
     """Whether the likeness carries the book to rows that the other one has, each as often."""
     return sorted(row for name, row in carried_rows_by_trial(book, likeness)) == sorted(row for name, row in other[1])
+
+
+def ordered_partings(row):
+    """All tuples of two half-rows that part the row, in either order."""
+    halves = all_texts("ny", len(row))
+    return [(one, other) for one in halves for other in halves if row_by_trial(one, other) == row]
+
+
+def crossings_in(text):
+    return sum(sign != ahead for ahead, sign in zip(text, text[1:]))
+
+
+def young_by(a, b, u, v):
+    """The row that these ways make of A and B."""
+    return "".join(row_by_trial(a[int(x)][place], b[int(y)][place]) for place, (x, y) in enumerate(zip(u, v)))
+
+
+def fewest_by_trial(family):
+    """The fewest crossings, by going through all A, B and ways; None where there is no telling."""
+    one, other, young = family
+    texts = all_texts("01", len(one))
+    found = []
+    for a, b in itertools.product(ordered_partings(one), ordered_partings(other)):
+        made = {}
+        for u, v in itertools.product(texts, repeat=2):
+            row, many = young_by(a, b, u, v), crossings_in(u) + crossings_in(v)
+            made[row] = min(many, made.get(row, many))
+        if all(row in made for row in young):
+            found.append(sum(made[row] for row in young))
+    return min(found, default=None)
+
+
+def never_by_trial(family):
+    """The first place at which no signs give all young ones theirs, None where there is none."""
+    one, other, young = family
+    signs = {"n": "n", "y": "y", "b": "ny"}
+    for place in range(len(one)):
+        let = {row_by_trial(x, y) for x in signs[one[place]] for y in signs[other[place]]}
+        if not {row[place] for row in young} <= let:
+            return place
+    return None
+
+
+def counts_by_trial(book, many, paper):
+    """Whether (FIT, TURNS, SUMS) shows that there are so many fits, clause by clause as point 21 reads."""
+    fit, turns, sums = paper
+    links, rules = links_by_trial(book), rules_by_trial(book)
+    if fit not in fits_by_trial(book):
+        return False
+    if not all(list(turn) == sorted(set(turn)) and set(turn) <= set(links) for turn in turns):
+        return False
+    if any(len(set(said) & set(turn)) % 2 for said, bit in rules.values() for turn in turns):
+        return False
+    if not all(any(all(link not in later for later in turns[at + 1:]) for link in turn) for at, turn in enumerate(turns)):
+        return False
+    if not all(list(used) == sorted(set(used)) and set(used) <= set(rules) for used in sums):
+        return False
+    times = [[sum(link in rules[rule][0] for rule in used) % 2 for link in links] for used in sums]
+    if not all(any(odd and not any(later[place] for later in times[at + 1:]) for place, odd in enumerate(row))
+               for at, row in enumerate(times)):
+        return False
+    return len(turns) + len(sums) == len(links) and many == 2 ** len(turns)
